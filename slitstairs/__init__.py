@@ -1,0 +1,1 @@
+"""Cards of one sheet that stand when a page is opened."""
