@@ -67,9 +67,9 @@ def panel_table(card):
     return tuple([tuple(cells[c * steps:(c + 1) * steps]) for c in range(card.width)])
 
 
-def how_many_panels(card):
-    """Return how many panels the card has."""
-    return 1 + max([max(row) for row in panel_table(card)])
+def how_many_panels(table):
+    """Return how many panels a card with this table has."""
+    return 1 + max([max(row) for row in table])
 
 
 def panel_of_cells(card, number, cells):
@@ -83,8 +83,9 @@ def panel_of_cells(card, number, cells):
 
 def panels_of(card):
     """Return the panels of the card in the order of their numbers."""
-    lots = [[] for _ in range(how_many_panels(card))]
-    for c, row in enumerate(panel_table(card)):
+    table = panel_table(card)
+    lots = [[] for _ in range(how_many_panels(table))]
+    for c, row in enumerate(table):
         for t, number in enumerate(row):
             lots[number].append((c, t))
     return tuple([panel_of_cells(card, number, cells) for number, cells in enumerate(lots)])
@@ -124,7 +125,7 @@ def crease_rows(card):
 
 def hinges(card, ahead, behind):
     """Return (c, t) for each crease between the panel `ahead` and the panel `behind`."""
-    most = how_many_panels(card) - 1
+    most = how_many_panels(panel_table(card)) - 1
     for number in (ahead, behind):
         if not is_whole(number, 0, most):
             raise NoPanel(number)
