@@ -103,7 +103,11 @@ class Column:
     @property
     def places(self):
         """The places of all boundaries."""
-        return tuple([self.place(boundary) for boundary in range(len(self.word) + 1)])
+        # Worked out of the heights: `place` is also an attribute of errors, so no property calls it.
+        return tuple([
+            ((boundary - height) // 2, self.size - (boundary + height) // 2)
+            for boundary, height in enumerate(self.heights)
+        ])
 
     @property
     def heights(self):
@@ -136,12 +140,12 @@ class Column:
     @property
     def hollows(self):
         """How many hollows the column has."""
-        return self.word.count("do")
+        return len([boundary for boundary, kind in self.creases if kind == "hollow"])
 
     @property
     def ridges(self):
         """How many ridges the column has."""
-        return self.word.count("od")
+        return len([boundary for boundary, kind in self.creases if kind == "ridge"])
 
     def mirrored(self):
         """Return the column with wall and floor exchanged."""

@@ -1,6 +1,8 @@
 """What several test files use."""
 
+from fractions import Fraction
 from itertools import product
+from math import gcd
 
 NO_NUMBERS = (True, False, None, "0", "1", "", 1.0, (1,), [1], {}, b"1")
 NO_SEQUENCES = (None, True, 3, "do", b"do", {}, {1: 2}, {1}, range(2), iter([]))
@@ -43,3 +45,35 @@ class Raises:
         for name, value in attributes.items():
             self.assertEqual(told[name], value)
             self.assertIs(told[name].__class__, value.__class__)
+
+
+def crossed(word):
+    """The places of a word's boundaries, as (x, y)."""
+    return [(word[:t].count("o"), len(word) // 2 - word[:t].count("d")) for t in range(len(word) + 1)]
+
+
+def slow_rank(rows):
+    """The rank of rows of whole numbers, worked out with fractions."""
+    rows = [[Fraction(number) for number in row] for row in rows]
+    rank = 0
+    for place in range(len(rows[0]) if rows else 0):
+        pivots = [row for row in rows[rank:] if row[place]]
+        if not pivots:
+            continue
+        pivot = pivots[0]
+        rows.remove(pivot)
+        rows.insert(rank, pivot)
+        for k, row in enumerate(rows):
+            if k > rank and row[place]:
+                times = row[place] / pivot[place]
+                rows[k] = [number - times * other for number, other in zip(row, pivot)]
+        rank += 1
+    return rank
+
+
+def is_lowest(numbers):
+    return any(numbers) and gcd(*numbers) == 1 and next(number for number in numbers if number) > 0
+
+
+def fraction_of(ratio):
+    return Fraction(ratio.top, ratio.bottom)

@@ -20,6 +20,7 @@ OPERATORS = set("""lt le gt ge ne add sub mul floordiv mod pow and or xor lshift
     contains getitem setitem""".split())
 DUNDERS = {f"__{name}__" for name in OPERATORS} | set(
     "__init__ __eq__ __repr__ __str__ __len__ __enter__ __exit__ __call__ __iter__".split())
+ASKED = DUNDERS - {"__init__", "__call__", "__enter__", "__exit__"}
 LISTS_ONLY = {"any", "all", "min", "max", "sum", "sorted"}
 
 
@@ -105,3 +106,119 @@ class FormTest(unittest.TestCase):
             for decorator in getattr(node, "decorator_list", []):
                 told = ast.unparse(decorator)
                 self.assertTrue(told in ("property", "staticmethod", "classmethod") or told.endswith(".setter"), place)
+
+
+def is_property(node):
+    return any(ast.unparse(decorator).split(".")[-1] in ("property", "setter") for decorator in node.decorator_list)
+
+
+class Asked:
+    """What properties and operators run: the functions that they call, and what these call, by name."""
+
+    def __init__(self, trees):
+        self.attributes = set()
+        self.functions = {}
+        self.methods = {}
+        self.properties = {}
+        self.library = set()
+        self.roots = []
+        for place, tree in trees:
+            self.add_names(place, tree)
+
+    def add_names(self, place, tree):
+        for node in ast.walk(tree):
+            if isinstance(node, ast.Attribute) and isinstance(node.ctx, ast.Store):
+                self.attributes.add(node.attr)
+            if isinstance(node, ast.ImportFrom) and node.module in LIBRARY:
+                self.library.update(alias.name for alias in node.names)
+        for node in tree.body:
+            if isinstance(node, ast.FunctionDef):
+                self.functions.setdefault(node.name, []).append((place, node))
+            if isinstance(node, ast.ClassDef):
+                self.functions.setdefault(node.name, [])
+                for method in node.body:
+                    if isinstance(method, ast.FunctionDef):
+                        self.add_method(place, node, method)
+
+    def add_method(self, place, node, method):
+        if method.name == "__init__":
+            self.functions[node.name].append((place, method))
+        elif is_property(method):
+            self.properties.setdefault(method.name, []).append((place, method))
+            self.roots.append((place, method))
+        else:
+            self.methods.setdefault(method.name, []).append((place, method))
+            if method.name in ASKED:
+                self.roots.append((place, method))
+
+    def run(self):
+        """The functions and methods that are run, the roots among them."""
+        found = []
+        waiting = list(self.roots)
+        while waiting:
+            place, function = waiting.pop()
+            if (place, function) in found:
+                continue
+            found.append((place, function))
+            for node in ast.walk(function):
+                if isinstance(node, ast.Attribute):
+                    waiting.extend(self.properties.get(node.attr, []))
+                if isinstance(node, ast.Call) and isinstance(node.func, ast.Name):
+                    waiting.extend(self.functions.get(node.func.id, []))
+                if isinstance(node, ast.Call) and isinstance(node.func, ast.Attribute):
+                    waiting.extend(self.methods.get(node.func.attr, []))
+        return found
+
+    def faults(self):
+        found = []
+        for place, function in self.run():
+            for node in ast.walk(function):
+                told = (place, function.name, getattr(node, "lineno", 0))
+                if isinstance(node, ast.Call) and isinstance(node.func, ast.Attribute):
+                    if node.func.attr in self.attributes:
+                        found.append((*told, node.func.attr))
+                elif isinstance(node, ast.Call):
+                    name = node.func.id if isinstance(node.func, ast.Name) else "?"
+                    if name not in self.functions and name not in self.library and name not in vars(builtins):
+                        found.append((*told, name))
+                if isinstance(node, ast.Attribute) and not isinstance(node.ctx, ast.Load):
+                    if function.name != "__init__":
+                        found.append((*told, node.attr))
+        return found
+
+
+class AskedTest(unittest.TestCase):
+    """A property or an operator, and all that it calls, calls no name that is an attribute too, nothing
+    that it is passed or holds, and assigns no attribute."""
+
+    def package(self):
+        return [(path.name, ast.parse(path.read_text())) for path in sorted(PACKAGE.glob("*.py"))]
+
+    def test_the_package(self):
+        asked = Asked(self.package())
+        self.assertLessEqual({"count", "place", "index"}, asked.attributes)
+        names = {function.name for _, function in asked.run()}
+        self.assertLessEqual({"places", "hollows", "ridges", "rank", "__add__", "__bool__", "__eq__", "__len__"}, names)
+        self.assertEqual(asked.faults(), [])
+
+    def faults(self, text):
+        return [fault[-1] for fault in Asked([*self.package(), ("told.py", ast.parse(text))]).faults()]
+
+    def test_what_it_finds(self):
+        self.assertEqual(self.faults("class Told:\n @property\n def held(self):\n  return self.word.count(1)"), ["count"])
+        self.assertEqual(self.faults("class Told:\n def __len__(self):\n  return len(self.place(1))"), ["place", "count"])
+        self.assertEqual(self.faults("class Told:\n def held(self):\n  return self.word.count(1)"), [])
+        self.assertEqual(self.faults("""
+def far(word):
+    return word.index("d")
+def near(word):
+    return far(word)
+class Told:
+    def __init__(self, word):
+        self.word = word
+    @property
+    def held(self):
+        return near(self.word)
+"""), ["index"])
+        self.assertEqual(self.faults("class Told:\n def __add__(self, other):\n  return other(1)"), ["other"])
+        self.assertEqual(self.faults("class Told:\n def __eq__(self, other):\n  self.seen = 1\n  return 1"), ["seen"])
