@@ -74,6 +74,14 @@ def chosen_card(lots, number):
     return Card([Column(word) for word in words[::-1]])
 
 
+def choice_number(lots, words):
+    """Return the number of the choice of these words, one out of each lot."""
+    number = 0
+    for c, lot in enumerate(lots):
+        number = number * len(lot) + lot.index(words[c])
+    return number
+
+
 def cards_between(one, other):
     """Yield all cards between two cards in the order of their words."""
     lots = word_lots(one, other)
@@ -102,10 +110,7 @@ def between_index(one, other, card):
     place = outside_place(height_rows(one), height_rows(other), height_rows(card))
     if place is not None:
         raise NotBetween(place[0], place[1])
-    number = 0
-    for c, lot in enumerate(lots):
-        number = number * len(lot) + lot.index(card.words[c])
-    return number
+    return choice_number(lots, card.words)
 
 
 def between_at(one, other, number):
@@ -142,7 +147,7 @@ def how_many_column_rows(words):
             if word[t:t + 2] == "do":
                 filled = word[:t] + "od" + word[t + 2:]
                 if filled in ways:
-                    ways[filled] += ways[word]
+                    ways[filled] = ways[filled] + ways[word]
     return ways[words[-1]]
 
 

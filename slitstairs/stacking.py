@@ -24,6 +24,16 @@ def is_pull(thing):
     return all([is_number(number) for number in thing]) and thing[1] >= 1 and thing[2] >= 1
 
 
+def pulled_word(word, boundary, downs, outs):
+    """Return the word after a pull that can be made on its column."""
+    return word[:boundary - downs] + "o" * outs + "d" * downs + word[boundary + outs:]
+
+
+def pushed_word(word, boundary, downs, outs):
+    """Return the word of which such a pull makes this one."""
+    return word[:boundary - downs] + "d" * downs + "o" * outs + word[boundary + outs:]
+
+
 def stack_fault(column, thing):
     """Return None if this pull can be made on the column, else what is wrong with it."""
     if not is_pull(thing):
@@ -46,9 +56,7 @@ def pulled_column(column, *pulls):
         if fault is not None:
             raise BadStack(index, fault)
         boundary, downs, outs = thing
-        ahead = found.word[:boundary - downs]
-        behind = found.word[boundary + outs:]
-        found = Column(ahead + "o" * outs + "d" * downs + behind)
+        found = Column(pulled_word(found.word, boundary, downs, outs))
     return Column(found.word)
 
 
@@ -61,9 +69,8 @@ def undone(word, ridge):
     """Return the pull that makes the ridge at this boundary, and the word without that ridge."""
     outs = run_around(word, ridge, -1)
     downs = run_around(word, ridge, 1)
-    first = ridge - outs
-    plain = word[:first] + "d" * downs + "o" * outs + word[ridge + downs:]
-    return (first + downs, downs, outs), plain
+    boundary = ridge - outs + downs
+    return (boundary, downs, outs), pushed_word(word, boundary, downs, outs)
 
 
 def pulls_of(column, order):

@@ -4,8 +4,10 @@ import importlib
 import inspect
 import unittest
 
-CONSTANTS = {"columns": {"MOST_SIZE": 6}, "cards": {"MOST_WIDTH": 12}}
-GENERATORS = {"all_columns", "all_cards", "cards_between", "fewest_rows"}
+CONSTANTS = {"columns": {"MOST_SIZE": 6}, "cards": {"MOST_WIDTH": 12},
+             "verdicts": {"VERDICTS": ("follows", "stuck", "opens", "sways", "parted")}}
+GENERATORS = {"all_columns", "all_cards", "cards_between", "fewest_rows", "let_pulls", "let_pushes", "let_orders",
+              "braced_pulls", "granted_words", "granted_cards"}
 FUNCTIONS = {
     "columns": ["is_whole(thing, low, high)", "word_fault(thing)"],
     "allcolumns": ["all_columns(size)", "how_many_columns(size)", "column_index(column)", "column_at(size, number)",
@@ -27,6 +29,31 @@ FUNCTIONS = {
     "motions": ["motion_of(card)", "only_opens(card)", "motion_fault(card, told)", "panel_motion(card, panel)",
                 "still_panels(card)", "freedom_of(card, letter)", "gear_of(card, one, other)",
                 "speed_table(card, rates)", "opening_rates(card)", "loosening_cells(card)"],
+    "wishes": ["missed_places(wish, card)"],
+    "barring": ["bar_of(wish)", "bar_fault(wish, paper)"],
+    "books": ["parting_strip(one, other)"],
+    "shapes": ["shape_of(strip)", "shape_after(shape, word)"],
+    "spans": ["span_of(strip)", "span_after(span, word)"],
+    "verdicts": ["has_verdict(strip, verdict)"],
+    "tallies": ["least_strip(book, verdict)", "greatest_width(book, verdict)", "how_many_with(book, width, verdict)"],
+    "bookmends": ["changed_book(book, changes)", "is_good_book(book, verdict)",
+                  "least_mends(book, pool, *, verdict='follows')"],
+    "pulls": ["pull_fault(card, pull)", "push_fault(card, pull)", "pull_card(card, pull)", "push_card(card, pull)",
+              "pull_box(card, pull)", "let_pulls(card)", "let_pushes(card)"],
+    "resting": ["rest_table(boxes)", "numbers_beneath(table, number)", "numbers_above(table, number)",
+                "order_fault(table, order)", "count_orders(table)", "order_index(table, order)",
+                "order_at(table, index)", "order_exchanges(table, one, other)", "longest_chain(table)",
+                "closed_lots(table)", "table_rounds(table)", "table_hands(table)", "hands_fault(table, hands)",
+                "let_orders(table)"],
+    "braced": ["brace_fault(card, pull)", "led_back(card, pull, motion)", "braced_order(studio)", "braced_pulls(card)"],
+    "cardtext": ["card_text(card)", "parse_card(text)"],
+    "closing": ["all_follow(book)", "all_open(book)", "closing_fault(book, told)"],
+    "webs": ["granted_words(wish, c)", "granted_cards(wish)", "count_words(wish, c)", "word_at(wish, c, number)",
+             "word_index(wish, c, word)", "sure_letters(wish, c)", "count_granted(wish)",
+             "granted_card_at(wish, number)", "granted_card_index(wish, card)", "parting_card(one, other)"],
+    "fewest": ["fewest_slits(wish)", "fewest_fault(wish, found)"],
+    "follow": ["follow_of(card, known=())", "card_follows(card)", "follow_fault(card, result, known=())",
+               "opening_of(card)"],
 }
 CLASSES = {
     "columns": {"Column(word)": ["many(self, letter, boundary)", "place(self, boundary)", "height(self, boundary)",
@@ -51,9 +78,40 @@ CLASSES = {
     "prints": {"Print(inks)": [
         "mirrored(self)", "turned(self)", "with_ink(self, column, step, ink)", "__eq__(self, other)", "__len__(self)",
         "__iter__(self)", "plain(size, width, ink=0)", "alone(size, width, column, step)"]},
+    "wishes": {"Wish(printed, front, top)": [
+        "mirrored(self)", "turned(self)", "loosened(self, *places)", "__contains__(self, thing)",
+        "__and__(self, other)", "__eq__(self, other)"]},
+    "barring": {"Barred(column, reached)": ["__eq__(self, other)"]},
+    "books": {"Book(size, rooms, start, arrows, ends)": [
+        "of_strip(*words)", "of_any(*words)", "writes(self, strip)", "reads(self, card)", "how_many(self, width)",
+        "strips(self, width)", "strip_at(self, width, number)", "number_of(self, strip)", "earliest(self)",
+        "__eq__(self, other)", "__len__(self)", "__iter__(self)"]},
+    "shapes": {"Shape(word, outs, downs)": ["__eq__(self, other)"]},
+    "spans": {"Span(word, outs, downs)": ["__eq__(self, other)"]},
+    "pulls": {
+        "Pull(first, last, boundary, *, downs=1, outs=1)": [
+            "mirrored(self, size)", "turned(self, width)", "__eq__(self, other)", "__str__(self)"],
+        "Box(first, last, x, y, outs, downs)": [
+            "meets(self, other)", "rests_on(self, other)", "__contains__(self, square)", "__len__(self)",
+            "__eq__(self, other)"]},
+    "resting": {"Hands(chains, together)": []},
+    "studio": {"Studio(start)": [
+        "pull(self, pull)", "take_back(self, number)", "take_down(self, number)", "replay(self, order)",
+        "card_of(self, lot)", "trial(self)", "tried(self, call)", "with_pulls(start, *pulls)", "__len__(self)",
+        "__iter__(self)"]},
+    "braced": {"BracedOrder(order)": [], "NoBracedOrder(lots)": []},
+    "closing": {"AllFollow(pairs)": ["__eq__(self, other)", "__len__(self)", "__iter__(self)"],
+                "AllOpen(pairs)": ["__eq__(self, other)", "__len__(self)", "__iter__(self)"],
+                "SomeCard(strip)": ["__eq__(self, other)"]},
+    "fewest": {"Fewest(card, slits, prices)": ["__eq__(self, other)"]},
+    "follow": {"Follows(rounds)": ["round_of(self, panel)", "__eq__(self, other)"],
+               "Stuck(rounds, known, rest)": ["round_of(self, panel)", "__eq__(self, other)"]},
 }
 PROPERTIES = {("columns", "Column"): ["heights", "places", "runs", "creases", "hollows", "ridges"],
-              ("solving", "System"): ["rank"]}
+              ("solving", "System"): ["rank"], ("shapes", "Shape"): ["follows", "is_lost"],
+              ("spans", "Span"): ["opens", "is_loose"], ("pulls", "Box"): ["squares"], ("studio", "Studio"): ["table"],
+              ("follow", "Follows"): ["steps"], ("follow", "Stuck"): ["steps"]}
+GENERATOR_METHODS = {("books", "Book"): ["strips"]}
 
 
 def told_of(thing, name):
@@ -88,6 +146,14 @@ class InterfaceTest(unittest.TestCase):
         for (name, short), properties in PROPERTIES.items():
             for each in properties:
                 self.assertIsInstance(vars(getattr(module_of(name), short))[each], property)
+
+    def test_generator_methods(self):
+        for (name, short), methods in GENERATOR_METHODS.items():
+            for each in methods:
+                self.assertTrue(inspect.isgeneratorfunction(vars(getattr(module_of(name), short))[each]))
+
+    def test_class_values(self):
+        self.assertEqual(vars(module_of("books").Book)["MOST_WIDTH"], 60)
 
     def test_constants(self):
         for name, constants in CONSTANTS.items():
