@@ -100,7 +100,7 @@ class Book:
     def of_any(cls, *words):
         """Return the book that writes every strip of these words."""
         check_strip(words)
-        return cls(len(words[0]) // 2, 1, 0, [(0, word, 0) for word in sorted({word for word in words})], [0])
+        return cls(len(words[0]) // 2, 1, 0, [(0, word, 0) for word in sorted(set(words))], [0])
 
     def writes(self, strip):
         """Tell whether the book writes a strip; it writes nothing that is none."""
@@ -108,7 +108,7 @@ class Book:
             return False
         rooms = (self.start,)
         for word in strip:
-            if not isinstance(word, str) or word not in self.words:
+            if not isinstance(word, str):
                 return False
             rooms = rooms_after(self, rooms, word)
         return has_end(self, rooms)
@@ -257,10 +257,10 @@ class StripCounts:
             for led in list(self.led[rooms].values()):
                 if led not in lots:
                     lots.append(led)
-        self.counted = [{rooms: 1 if has_end(book, rooms) else 0 for rooms in lots}]
+        self.counted = [{lot: 1 if has_end(book, lot) else 0 for lot in lots}]
         for left in range(width):
             ahead = self.counted[left]
-            self.counted.append({rooms: sum([ahead[led] for led in list(self.led[rooms].values())]) for rooms in lots})
+            self.counted.append({lot: sum([ahead[other] for other in list(self.led[lot].values())]) for lot in lots})
 
     def all_strips(self):
         """Return how many strips of the width the book writes."""

@@ -1,9 +1,9 @@
 """Braced pulls: those after which no freedom of the card is greater."""
 
-from slitstairs.errors import BadPull, BadTable, NotBraced
+from slitstairs.errors import BadTable, NotBraced
 from slitstairs.motions import Sways
 from slitstairs.panels import floor_panel, how_many_panels, panel_table, wall_panel
-from slitstairs.pulls import has_runs, let_pulls, pull_card, pull_fault
+from slitstairs.pulls import has_runs, let_pulls, pull_card
 from slitstairs.resting import MOST_TABLE, next_numbers, with_number
 
 
@@ -58,17 +58,10 @@ def let_brace_fault(card, rows, after_rows, pull):
     return None if is_hinged_outside(rows, pull, ahead, behind) else "hinge"
 
 
-def check_let_pull(card, pull):
-    """Raise BadPull if the pull is not let on the card."""
-    fault = pull_fault(card, pull)
-    if fault is not None:
-        raise BadPull(fault)
-
-
 def brace_fault(card, pull):
     """Return None if a let pull is braced, else what is wrong with it."""
-    check_let_pull(card, pull)
-    return let_brace_fault(card, panel_table(card), panel_table(pull_card(card, pull)), pull)
+    after = pull_card(card, pull)
+    return let_brace_fault(card, panel_table(card), panel_table(after), pull)
 
 
 def braced_pulls(card):
@@ -131,7 +124,7 @@ class BracedLots:
         for lot in sorted(self.nexts, key=len, reverse=True):
             if any([with_number(lot, number) in leading for number in self.nexts[lot]]):
                 leading[lot] = True
-        if every not in self.nexts or () not in leading:
+        if () not in leading:
             return None
         order = []
         lot = ()

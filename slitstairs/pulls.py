@@ -169,50 +169,47 @@ def push_fault(card, pull):
     return "mark" if has_mark(card, pull) else None
 
 
-def with_words(card, pull, words):
-    """Return the card with these words in the columns of the pull."""
-    columns = [Column(word) for word in words]
-    return Card([*card.columns[:pull.first], *columns, *card.columns[pull.last + 1:]], card.marks)
+def check_no_fault(fault):
+    """Raise BadPull if there is a fault."""
+    if fault is not None:
+        raise BadPull(fault)
+
+
+def with_made_words(card, pull, make):
+    """Return the card with what `make` makes of their words in the columns of the pull."""
+    columns = list(card.columns)
+    for c in range(pull.first, pull.last + 1):
+        columns[c] = Column(make(card.words[c], pull.boundary, pull.downs, pull.outs))
+    return Card(columns, card.marks)
 
 
 def pull_card(card, pull):
     """Return the card after a pull."""
-    fault = pull_fault(card, pull)
-    if fault is not None:
-        raise BadPull(fault)
-    return with_words(card, pull, [
-        pulled_word(column.word, pull.boundary, pull.downs, pull.outs) for column in pulled_columns(card, pull)
-    ])
+    check_no_fault(pull_fault(card, pull))
+    return with_made_words(card, pull, pulled_word)
 
 
 def push_card(card, pull):
     """Return the card of which the pull makes this one."""
-    fault = push_fault(card, pull)
-    if fault is not None:
-        raise BadPull(fault)
-    return with_words(card, pull, [
-        pushed_word(column.word, pull.boundary, pull.downs, pull.outs) for column in pulled_columns(card, pull)
-    ])
+    check_no_fault(push_fault(card, pull))
+    return with_made_words(card, pull, pushed_word)
 
 
 def pull_box(card, pull):
     """Return the box that a pull adds to the card."""
-    fault = pull_fault(card, pull)
-    if fault is not None:
-        raise BadPull(fault)
+    check_no_fault(pull_fault(card, pull))
     x, y = card.columns[pull.first].place(pull.boundary)
     return Box(pull.first, pull.last, x, y, pull.outs, pull.downs)
 
 
 def crease_numbers(card, kind):
-    """Return (first, last, boundary, ahead, behind) for each crease of this kind that runs through some
-    columns, with the lengths of its runs in the first one."""
+    """Return (first, last, boundary, ahead, behind) for some columns and each crease of this kind of the
+    first one, with the lengths of its runs."""
     return [
         (first, last, boundary, run_around(card.words[first], boundary, -1), run_around(card.words[first], boundary, 1))
         for first in range(card.width)
         for last in range(first, card.width)
-        for boundary, told in card.columns[first].creases
-        if told == kind and crease_fault(card, Pull(first, last, boundary), boundary, kind) is None
+        for boundary, told in card.columns[first].creases if told == kind
     ]
 
 

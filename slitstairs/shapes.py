@@ -43,15 +43,13 @@ class Seam:
         common = common_steps(Column(left), Column(right))
         self.old = how_many_runs(left, letter)
         led = {right_row[t]: left_row[t] for t in common if right[t] == letter}
-        self.total = self.old
-        places = []
-        for run in range(how_many_runs(right, letter)):
-            if run not in led:
-                led[run] = self.total
-                self.total += 1
-            places.append(led[run])
+        many = how_many_runs(right, letter)
+        new = [run for run in range(many) if run not in led]
+        for k, run in enumerate(new):
+            led[run] = self.old + k
+        self.total = self.old + len(new)
         # For each run of the new column its unknown.
-        self.unknowns = tuple(places)
+        self.unknowns = tuple([led[run] for run in range(many)])
         new_row = [None if run is None else led[run] for run in right_row]
         self.equations = [equation_of(("column", 1), letter_cells(right, new_row, letter, len(right)), [])]
         for t in common:

@@ -89,7 +89,7 @@ def state_steps(reader):
         state = waiting.pop()
         if state not in found:
             found[state] = [reader.after(state, word) for word in reader.words]
-            waiting.extend(found[state])
+            waiting.extend(list(found[state]))
     return found
 
 
@@ -105,7 +105,7 @@ def leading_states(steps, good):
         state = waiting.pop()
         if state not in found:
             found[state] = True
-            waiting.extend(ahead[state])
+            waiting.extend(list(ahead[state]))
     return found
 
 
@@ -115,10 +115,11 @@ def longest_way(steps, first, good):
     leading = leading_states(steps, good)
     if first not in leading:
         return 0
+    ways = {state: [led for led in steps[state] if led in leading] for state in leading}
     # How many words lead to a state from states that have not had their turn.
     before = {state: 0 for state in leading}
-    for state in leading:
-        for led in [led for led in steps[state] if led in before]:
+    for nexts in list(ways.values()):
+        for led in nexts:
             before[led] += 1
     widths = {first: 0}
     waiting = [first]
@@ -126,7 +127,7 @@ def longest_way(steps, first, good):
     while waiting:
         state = waiting.pop()
         turns += 1
-        for led in [led for led in steps[state] if led in before]:
+        for led in ways[state]:
             widths[led] = max(widths.get(led, 0), widths[state] + 1)
             before[led] -= 1
             if before[led] == 0:

@@ -101,6 +101,23 @@ class FormTest(unittest.TestCase):
             if isinstance(node, ast.Name) and node.id in vars(builtins):
                 self.assertIn(node.id, BUILTINS, place)
 
+    def test_what_is_added_to_items_and_attributes_is_a_literal(self):
+        for place, node in self.nodes():
+            if isinstance(node, ast.AugAssign) and not isinstance(node.target, ast.Name):
+                self.assertIsInstance(node.value, ast.Constant, place)
+
+    def test_extend_gets_a_list_of_its_own(self):
+        for place, node in self.nodes():
+            if isinstance(node, ast.Call) and isinstance(node.func, ast.Attribute) and node.func.attr in ("extend", "update"):
+                (told,) = node.args
+                made = isinstance(told, ast.Call) and ast.unparse(told.func) in ("list", "sorted")
+                self.assertTrue(made or isinstance(told, (ast.List, ast.ListComp, ast.BinOp)), place)
+
+    def test_set_literals_have_no_stars(self):
+        for place, node in self.nodes():
+            if isinstance(node, ast.Set):
+                self.assertFalse(any(isinstance(part, ast.Starred) for part in node.elts), place)
+
     def test_decorators(self):
         for place, node in self.nodes():
             for decorator in getattr(node, "decorator_list", []):

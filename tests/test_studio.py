@@ -1,12 +1,12 @@
 import random
 import unittest
-from itertools import combinations
+from itertools import combinations, permutations
 
 from helpers import NO_NUMBERS, NO_SEQUENCES, Anything, Raises
 from slitstairs.cards import Card
 from slitstairs.errors import BadLot, BadOrder, BadPull, BadStudio, BadTable, NoSuch, Rests, TooEarly
 from slitstairs.pulls import Pull, let_pulls, pull_box, pull_card
-from slitstairs.resting import closed_lots, let_orders, rest_table
+from slitstairs.resting import closed_lots, let_orders, order_fault, rest_table
 from slitstairs.studio import Studio
 
 CARD = Card.of_words("dddooo", "dddooo")
@@ -145,6 +145,22 @@ class ReplayTest(Raises, unittest.TestCase):
                 self.assertEqual(other.boxes, tuple(studio.boxes[number] for number in order))
                 self.assertEqual(state(studio.replay(list(order))), state(other))
             self.assertEqual(state(studio), before)
+
+    def test_orders_that_are_not_let(self):
+        tried = 0
+        for studio in some_studios(4):
+            for order in permutations(range(len(studio))):
+                if order_fault(studio.table, order) is None:
+                    continue
+                tried += 1
+                self.raises(TooEarly, dict(zip(("index", "on"), order_fault(studio.table, order))), studio.replay, order)
+                # Some pull is not let at its turn or makes another box.
+                try:
+                    other = Studio.with_pulls(studio.start, *[studio.pulls[number] for number in order])
+                except BadPull:
+                    continue
+                self.assertNotEqual(other.boxes, tuple(studio.boxes[number] for number in order))
+        self.assertGreater(tried, 20)
 
     def test_the_new_studio_is_another_one(self):
         studio = example()
