@@ -115,6 +115,12 @@ def entries_after(entries, left, right, letter):
     return tuple(found)
 
 
+def has_all(entry, word, letter):
+    """Tell whether an entry says that all runs of a letter of a word, and all panels behind, are known."""
+    known, behind = entry
+    return behind and len(known) == how_many_runs(word, letter)
+
+
 class Shape:
     """The last word of a strip and, for each letter, for each lot of its runs, what following leads to."""
 
@@ -126,8 +132,7 @@ class Shape:
     @property
     def follows(self):
         """Whether the strip follows."""
-        # The last entry has all runs, so nothing but what entry 0 needs to have.
-        return self.outs[0] == (self.outs[-1][0], True) and self.downs[0] == (self.downs[-1][0], True)
+        return has_all(self.outs[0], self.word, "o") and has_all(self.downs[0], self.word, "d")
 
     @property
     def is_lost(self):

@@ -86,6 +86,10 @@ class BarFaultTest(unittest.TestCase):
         self.assertIsNone(self.fault((((0, 0),), ((1, 0),), ((1, 1),), ()), wish=two))
         self.assertIsNone(self.fault((((0, 0), (0, 0)), ((1, 0),), ((1, 1),), (), ()), wish=two))
 
+    def test_lists_in_place_of_tuples(self):
+        self.assertIsNone(self.fault([[list(place) for place in entry] for entry in REACHED]))
+        self.assertEqual(self.fault([[], *[[list(place) for place in entry] for entry in REACHED[1:]]]), "start")
+
     def test_column(self):
         for thing in (*NO_NUMBERS, -1, 1, 10 ** 20):
             self.assertEqual(self.fault((), column=thing), "column")
@@ -104,6 +108,8 @@ class BarFaultTest(unittest.TestCase):
             self.assertEqual(self.fault((*REACHED[:3], ((2, 1), thing), ())), "place")
         self.assertEqual(self.fault((((0, 0),), ((1, 0),), ((2, 0),), ((2, 1),), ((3, 2),))), "place")
         self.assertEqual(self.fault(((), ((0, 0),), ())), "place")
+        for k, thing in ((0, (1, -1)), (1, (2, -1)), (2, (3, -1)), (2, (-1, 3)), (1, (0, 1))):
+            self.assertEqual(self.fault((*REACHED[:k], (*REACHED[k], thing), *REACHED[k + 1:])), "place")
 
     def test_start(self):
         self.assertEqual(self.fault(((), ())), "start")

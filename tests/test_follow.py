@@ -137,6 +137,16 @@ class FollowOfTest(Raises, unittest.TestCase):
                 known |= chance.choice(steps)
             self.assertEqual(known, slow_rounds(card, ())[1])
 
+    def test_more_known_from_the_beginning(self):
+        chance = random.Random(57)
+        for card in some_cards():
+            many = len(panels_of(card))
+            for known in some_lots(card, 2):
+                few, more = follow_of(card, known), follow_of(card, sorted({*known, chance.randrange(many)}))
+                for panel in range(many):
+                    if few.round_of(panel) is not None:
+                        self.assertLessEqual(more.round_of(panel), few.round_of(panel))
+
     def test_turned_cards(self):
         for card in some_cards():
             rounds, turned = (follow_of(each).rounds for each in (card, card.turned()))

@@ -36,6 +36,11 @@ def bound_names(node):
     return []
 
 
+def generator_names(trees):
+    return {node.name for _, tree in trees for node in ast.walk(tree) if isinstance(node, ast.FunctionDef)
+            and any(isinstance(part, (ast.Yield, ast.YieldFrom)) for part in ast.walk(node))}
+
+
 class FormTest(unittest.TestCase):
     def setUp(self):
         self.files = sorted(PACKAGE.glob("*.py"))
@@ -117,6 +122,80 @@ class FormTest(unittest.TestCase):
         for place, node in self.nodes():
             if isinstance(node, ast.Set):
                 self.assertFalse(any(isinstance(part, ast.Starred) for part in node.elts), place)
+
+    def test_locals_are_no_imports_and_no_classes(self):
+        for path, tree in self.trees:
+            taken = {alias.name for node in tree.body if isinstance(node, ast.ImportFrom) for alias in node.names}
+            taken |= {node.name for node in tree.body if isinstance(node, ast.ClassDef)}
+            for node in ast.walk(tree):
+                if isinstance(node, (ast.arg, ast.Name, ast.ExceptHandler)):
+                    for name in bound_names(node):
+                        self.assertNotIn(name, taken, f"{path.name}:{node.lineno}")
+
+    def test_one_binding_for_each_name(self):
+        for path, tree in self.trees:
+            names = [alias.name for node in tree.body if isinstance(node, ast.ImportFrom) for alias in node.names]
+            names += [node.name for node in tree.body if isinstance(node, (ast.FunctionDef, ast.ClassDef))]
+            names += [target.id for node in tree.body if isinstance(node, ast.Assign) for target in node.targets]
+            self.assertEqual(sorted(names), sorted(set(names)), path.name)
+
+    def test_the_underscore_is_never_read(self):
+        for place, node in self.nodes():
+            if isinstance(node, ast.Name) and node.id == "_":
+                self.assertIsInstance(node.ctx, ast.Store, place)
+
+    def test_no_two_files_import_from_each_other(self):
+        needs = {path.stem: {node.module.removeprefix("slitstairs.") for node in tree.body
+                             if isinstance(node, ast.ImportFrom) and node.module.startswith("slitstairs.")}
+                 for path, tree in self.trees}
+        left = set(needs)
+        while left:
+            ready = {name for name in left if not needs[name] & left}
+            self.assertTrue(ready, f"in a ring: {sorted(left)}")
+            left -= ready
+
+    def test_what_is_iterated_at_once(self):
+        barred = {"zip", "enumerate", "reversed", "range", "pairwise", "accumulate", "chain"} | generator_names(self.trees)
+        for path, tree in self.trees:
+            parents = {child: node for node in ast.walk(tree) for child in ast.iter_child_nodes(node)}
+            for node in ast.walk(tree):
+                if not isinstance(node, ast.Call):
+                    continue
+                name = getattr(node.func, "id", None) or getattr(node.func, "attr", None)
+                if name in barred or (name in ("items", "keys", "values") and not node.args):
+                    parent = parents[node]
+                    held = isinstance(parent, ast.Call) and ast.unparse(parent.func) in ("list", "tuple", "enumerate", "zip")
+                    self.assertTrue(held or isinstance(parent, (ast.For, ast.comprehension)), f"{path.name}:{node.lineno}")
+
+    def test_where_sets_stand(self):
+        for path, tree in self.trees:
+            parents = {child: node for node in ast.walk(tree) for child in ast.iter_child_nodes(node)}
+            for node in ast.walk(tree):
+                made = isinstance(node, ast.Call) and ast.unparse(node.func) == "set"
+                if made or isinstance(node, (ast.Set, ast.SetComp)):
+                    parent = parents[node]
+                    held = isinstance(parent, ast.Call) and ast.unparse(parent.func) in ("sorted", "len")
+                    self.assertTrue(held or isinstance(parent, (ast.Assign, ast.Compare)), f"{path.name}:{node.lineno}")
+
+    def test_names_of_methods_and_generators(self):
+        attributes, methods, functions = {}, {}, set()
+        for path, tree in self.trees:
+            functions |= {node.name for node in tree.body if isinstance(node, ast.FunctionDef)}
+            for told in tree.body:
+                for node in ast.walk(told) if isinstance(told, ast.ClassDef) else ():
+                    if isinstance(node, ast.FunctionDef):
+                        methods.setdefault(node.name, []).append((told.name, bool(node.decorator_list)))
+                    if isinstance(node, ast.Attribute) and isinstance(node.ctx, ast.Store):
+                        attributes.setdefault(node.attr, set()).add(told.name)
+        for name, places in methods.items():
+            owners = [owner for owner, _ in places]
+            self.assertEqual(sorted(owners), sorted(set(owners)), name)
+            self.assertEqual(attributes.get(name, set()) & set(owners), set(), name)
+            if any(decorated for _, decorated in places):
+                self.assertNotIn(name, attributes)
+        for name in generator_names(self.trees):
+            self.assertEqual(len(methods.get(name, [])) + (name in functions), 1, name)
+            self.assertNotIn(name, attributes)
 
     def test_decorators(self):
         for place, node in self.nodes():

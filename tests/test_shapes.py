@@ -10,7 +10,6 @@ from slitstairs.errors import BadStrip
 from slitstairs.shapes import Shape, shape_after, shape_of
 
 
-
 def slow_entries(words, letter):
     """The entries of a letter, by following the whole strip from each lot."""
     panels, rows = strip_rows(words, letter)
@@ -73,6 +72,16 @@ class ShapeOfTest(unittest.TestCase):
         for strip in wide_strips():
             self.check(strip)
             self.check(list(strip))
+
+    def test_follows_asks_the_first_entries(self):
+        stuck, whole = shape_of(("dododo",)), shape_of(("ddoodo", "dododo"))
+        self.assertIs(Shape("dododo", whole.outs, whole.downs).follows, True)
+        self.assertIs(Shape("dododo", stuck.outs, whole.downs).follows, False)
+        self.assertIs(Shape("dododo", whole.outs, stuck.downs).follows, False)
+        self.assertIs(Shape("dododo", whole.outs[:1], whole.downs[:1]).follows, True)
+        hidden = (((0, 1, 2), False),) + whole.outs[1:]
+        self.assertIs(Shape("dododo", hidden, whole.downs).follows, False)
+        self.assertIs(Shape("dododo", whole.outs, hidden).follows, False)
 
     def test_the_greatest_width(self):
         strip = ("ddoododo", "dododdoo", "ddododoo", "dododdoo") * 50
