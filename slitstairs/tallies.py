@@ -115,7 +115,7 @@ def longest_way(steps, first, good):
     leading = leading_states(steps, good)
     if first not in leading:
         return 0
-    ways = {state: [led for led in steps[state] if led in leading] for state in leading}
+    ways = {state: [other for other in steps[state] if other in leading] for state in leading}
     # How many words lead to a state from states that have not had their turn.
     before = {state: 0 for state in leading}
     for nexts in list(ways.values()):
