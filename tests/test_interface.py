@@ -5,9 +5,9 @@ import inspect
 import unittest
 
 CONSTANTS = {"columns": {"MOST_SIZE": 6}, "cards": {"MOST_WIDTH": 12},
-             "verdicts": {"VERDICTS": ("follows", "stuck", "opens", "sways", "parted")}}
+             "verdicts": {"VERDICTS": ("follows", "stuck", "opens", "sways", "parted")}, "knots": {"MOST_LOT_PANELS": 12}}
 GENERATORS = {"all_columns", "all_cards", "cards_between", "fewest_rows", "let_pulls", "let_pushes", "let_orders",
-              "braced_pulls", "granted_words", "granted_cards"}
+              "braced_pulls", "granted_words", "granted_cards", "cards_by_slits", "columns_with_row"}
 FUNCTIONS = {
     "columns": ["is_whole(thing, low, high)", "word_fault(thing)"],
     "allcolumns": ["all_columns(size)", "how_many_columns(size)", "column_index(column)", "column_at(size, number)",
@@ -54,6 +54,24 @@ FUNCTIONS = {
     "fewest": ["fewest_slits(wish)", "fewest_fault(wish, found)"],
     "follow": ["follow_of(card, known=())", "card_follows(card)", "follow_fault(card, result, known=())",
                "opening_of(card)"],
+    "forms": ["forms_of(card, letter, lot)"],
+    "knots": ["is_knot(card, lot)", "knots_of(card, letter)"],
+    "leaders": ["leaders_of(card, letter)"],
+    "views": ["front_view(card, printed)", "top_view(card, printed)", "print_from(card, front, top)",
+              "slope_view(card, printed, p, q)", "cell_span(card, column, step, p, q)",
+              "cell_seen(card, column, spot, p, q)"],
+    "nearest": ["nearest_word(wish, c)", "nearest_fault(wish, c, found)", "nearest_card(wish)", "least_waivers(wish, c)"],
+    "slitorder": ["slit_counts(wish)", "slit_order_at(wish, number)", "slit_order_index(wish, card)",
+                  "cards_by_slits(wish)"],
+    "openings": ["fewest_opening(wish, *, most=200)", "opening_fault(wish, found)"],
+    "shut": ["gutter_distance(card, c, t)", "layer_of(card, c, t)", "thickness(card, c, k)", "layer_steps(card, c, k)",
+             "middles(card, c, k)", "touching(card, c, k)", "thickness_row(card, c)", "thickest(card)"],
+    "pages": ["least_bulge(pages)", "bulge_fault(pages, least, lots, worst)"],
+    "parting": ["tells_cards(printed)", "fewest_changes(cards)", "parting_print(cards)"],
+    "sides": ["side_view(card)", "side_fault(size, rows)", "card_of_side(size, rows)"],
+    "slopes": ["alike_from(one, other, p, q)", "alike_by(one, other, printed, p, q)", "slopes_alike(one, other, printed)"],
+    "thickrows": ["thickness_fault(row)", "how_many_with_row(row)", "row_index(column)", "columns_with_row(row)",
+                  "column_with_row(row, number)"],
 }
 CLASSES = {
     "columns": {"Column(word)": ["many(self, letter, boundary)", "place(self, boundary)", "height(self, boundary)",
@@ -106,12 +124,30 @@ CLASSES = {
     "fewest": {"Fewest(card, slits, prices)": ["__eq__(self, other)"]},
     "follow": {"Follows(rounds)": ["round_of(self, panel)", "__eq__(self, other)"],
                "Stuck(rounds, known, rest)": ["round_of(self, panel)", "__eq__(self, other)"]},
+    "forms": {"Forms(letter, lot, rows, conditions)": ["of(self, panel)", "__call__(self, rates)", "__eq__(self, other)"],
+              "Led(letter, rates)": ["__eq__(self, other)"], "Clash(name, total)": ["__eq__(self, other)"]},
+    "leaders": {"Holding(card)": ["hold(self, panel)", "free(self, panel)", "try_holds(self, panels)", "__len__(self)",
+                                  "__iter__(self)"]},
+    "lookalikes": {"Lookalikes(card, printed)": ["lookalike_at(self, number)", "number_of(self, card)",
+                                                 "each_lookalike(self)"]},
+    "nearest": {"Nearest(word, misses, prices)": ["__eq__(self, other)"]},
+    "openings": {"FewestOpening(card, paper, ahead)": []},
+    "pages": {"Pages(*cards)": ["thickness_at(self, c, k)", "layers_at(self, c, k)", "bulge(self)",
+                                "in_order(self, order)", "with_turned(self, lot)", "__len__(self)", "__iter__(self)",
+                                "__eq__(self, other)"],
+              "Bulge(least, lots, worst)": ["__eq__(self, other)"]},
+    "parting": {"Twins(column, boundary, one, other)": []},
 }
 PROPERTIES = {("columns", "Column"): ["heights", "places", "runs", "creases", "hollows", "ridges"],
               ("solving", "System"): ["rank"], ("shapes", "Shape"): ["follows", "is_lost"],
               ("spans", "Span"): ["opens", "is_loose"], ("pulls", "Box"): ["squares"], ("studio", "Studio"): ["table"],
-              ("follow", "Follows"): ["steps"], ("follow", "Stuck"): ["steps"]}
-GENERATOR_METHODS = {("books", "Book"): ["strips"]}
+              ("follow", "Follows"): ["steps"], ("follow", "Stuck"): ["steps"],
+              ("lookalikes", "Lookalikes"): ["alike_many"]}
+GENERATOR_METHODS = {("books", "Book"): ["strips"], ("lookalikes", "Lookalikes"): ["each_lookalike"]}
+# What each object of a class has as attributes of its own, and what makes one.
+ATTRIBUTES = {("leaders", "Holding"): ["card", "held", "known", "rest"], ("pages", "Pages"): ["cards", "size", "width"],
+              ("lookalikes", "Lookalikes"): ["card", "printed"],
+              ("studio", "Studio"): ["start", "card", "pulls", "boxes"]}
 
 
 def told_of(thing, name):
@@ -151,6 +187,13 @@ class InterfaceTest(unittest.TestCase):
         for (name, short), methods in GENERATOR_METHODS.items():
             for each in methods:
                 self.assertTrue(inspect.isgeneratorfunction(vars(getattr(module_of(name), short))[each]))
+
+    def test_attributes(self):
+        card = module_of("cards").Card.of_words("ddoo")
+        for (name, short), attributes in ATTRIBUTES.items():
+            more = [module_of("prints").Print.plain(2, 1)] if short == "Lookalikes" else []
+            found = vars(getattr(module_of(name), short)(card, *more))
+            self.assertLessEqual(set(attributes), set(found))
 
     def test_class_values(self):
         self.assertEqual(vars(module_of("books").Book)["MOST_WIDTH"], 60)
