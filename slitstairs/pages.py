@@ -5,7 +5,7 @@ from slitstairs.cards import Card
 from slitstairs.columns import is_number, is_sequence, is_whole
 from slitstairs.errors import BadPages
 from slitstairs.lots import least_lots
-from slitstairs.shut import check_layer, first_greatest, layer_counts, layer_steps, thickness
+from slitstairs.shut import first_greatest, layer_counts, layer_steps, thickness
 
 MOST_PAGES = 6
 
@@ -49,7 +49,6 @@ class Pages:
 
     def layers_at(self, c, k):
         """Return (page, step) for each cell in layer k of column c, page by page."""
-        check_layer(self, c, k)
         return tuple([(page, t) for page, card in enumerate(self.cards) for t in layer_steps(card, c, k)])
 
     def bulge(self):

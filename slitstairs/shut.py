@@ -3,7 +3,7 @@
 from itertools import pairwise
 
 from slitstairs.columns import is_whole
-from slitstairs.errors import BadBoundary, BadPlace, NoLayer
+from slitstairs.errors import BadPlace, NoLayer
 from slitstairs.views import check_column
 
 
@@ -34,8 +34,6 @@ def first_greatest(rows):
 def gutter_distance(card, c, t):
     """Return how far boundary t of column c lies from the gutter."""
     check_column(card, c)
-    if not is_whole(t, 0, 2 * card.size):
-        raise BadBoundary(t)
     return card.size - card.columns[c].height(t)
 
 
