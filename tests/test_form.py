@@ -123,6 +123,21 @@ class FormTest(unittest.TestCase):
             if isinstance(node, ast.Set):
                 self.assertFalse(any(isinstance(part, ast.Starred) for part in node.elts), place)
 
+    def test_what_stands_behind_the_star_of_a_call(self):
+        for place, node in self.nodes():
+            for arg in node.args if isinstance(node, ast.Call) else ():
+                if isinstance(arg, ast.Starred):
+                    self.assertIsInstance(arg.value, (ast.Name, ast.Attribute), place)
+
+    def test_what_generators_are_passed(self):
+        """What a generator is passed stands there plainly: names, attributes and literals, and calls of builtins."""
+        generators = generator_names(self.trees)
+        for place, node in self.nodes():
+            if isinstance(node, ast.Call) and isinstance(node.func, ast.Name) and node.func.id in generators:
+                for part in node.args:
+                    plain = isinstance(part, ast.Call) and ast.unparse(part.func) in BUILTINS
+                    self.assertTrue(plain or isinstance(part, (ast.Name, ast.Attribute, ast.Constant)), place)
+
     def test_locals_are_no_imports_and_no_classes(self):
         for path, tree in self.trees:
             taken = {alias.name for node in tree.body if isinstance(node, ast.ImportFrom) for alias in node.names}

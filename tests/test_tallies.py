@@ -1,7 +1,9 @@
 import random
 import unittest
+from unittest.mock import patch
 
 from helpers import NO_NUMBERS, Raises, all_strips, all_words, slow_verdict, slow_writes, some_book
+from slitstairs import tallies
 from slitstairs.books import Book
 from slitstairs.errors import BadVerdict, BadWidth
 from slitstairs.tallies import greatest_width, how_many_with, least_strip
@@ -110,6 +112,26 @@ class TalliesTest(Raises, unittest.TestCase):
                 for verdict in VERDICTS:
                     told = len([strip for strip in all_strips(book.words, width) if slow_verdict(strip, verdict)])
                     self.assertEqual(how_many_with(book, width, verdict), told)
+
+    def test_what_a_word_makes_of_a_shape_is_worked_out_once(self):
+        chance = random.Random(15)
+        for book in [Book.of_any(*all_words(3)), Book.of_any(*chance.sample(all_words(4), 5)), PAIR]:
+            for name, verdict in (("shape_after", "stuck"), ("span_after", "sways"), ("shape_after", "parted")):
+                seen = []
+                work = getattr(tallies, name)
+
+                def kept(made, word):
+                    seen.append((made.word, made.outs, made.downs, word))
+                    return work(made, word)
+
+                counts = []
+                for width in (2, 30, 60):
+                    with patch.object(tallies, name, kept):
+                        how_many_with(book, width, verdict)
+                    self.assertEqual(len(set(seen)), len(seen))
+                    counts.append(len(seen))
+                    seen.clear()
+                self.assertEqual(len(set(counts[1:])), 1)
 
     def test_empty_books(self):
         for book in (Book(4, 1, 0, (), ()), Book(4, 2, 0, [(0, "dodododo", 0)], [1]), Book(4, 2, 0, (), (0, 1))):
