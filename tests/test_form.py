@@ -138,6 +138,27 @@ class FormTest(unittest.TestCase):
                     plain = isinstance(part, ast.Call) and ast.unparse(part.func) in BUILTINS
                     self.assertTrue(plain or isinstance(part, (ast.Name, ast.Attribute, ast.Constant)), place)
 
+    def test_names_of_inner_comprehensions_are_their_own(self):
+        made = (ast.ListComp, ast.SetComp, ast.DictComp, ast.GeneratorExp)
+
+        def targets(node):
+            return {name for part in node.generators for told in ast.walk(part.target) for name in bound_names(told)}
+
+        def look(node, place, outer, inside):
+            """Outer: the names that are assigned further out; inside: whether a comprehension is further out."""
+            if isinstance(node, made):
+                if inside:
+                    self.assertEqual(targets(node) & outer - {"_"}, set(), place)
+                outer, inside = outer | targets(node), True
+            for part in ast.iter_child_nodes(node):
+                look(part, place, outer, inside)
+
+        for place, node in self.nodes():
+            if isinstance(node, ast.FunctionDef):
+                held = {id(part) for each in ast.walk(node) if isinstance(each, made) for part in ast.walk(each)}
+                names = {name for part in ast.walk(node) if id(part) not in held for name in bound_names(part)}
+                look(node, place, names, False)
+
     def test_locals_are_no_imports_and_no_classes(self):
         for path, tree in self.trees:
             taken = {alias.name for node in tree.body if isinstance(node, ast.ImportFrom) for alias in node.names}
